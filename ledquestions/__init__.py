@@ -1,0 +1,1 @@
+"""Questions over rows and rules, led to questions over the rows alone."""
