@@ -22,15 +22,25 @@ def is_pair_for(unknown, thing):
     return is_whole(thing[1]) or is_name(thing[1])
 
 
+def given_by(question, thing):
+    """A dict of the terms that the thing gives for the question's unknowns; None where it is no such tuple of pairs."""
+    unknowns = unknowns_of(question)
+    if not is_tuple_of(thing, len(unknowns)):
+        return None
+    if not all([is_pair_for(unknown, pair) for unknown, pair in zip(unknowns, thing)]):
+        return None
+    return {pair[0]: pair[1] for pair in thing}
+
+
+def become_some_of(given, atoms, others):
+    """Whether each atom, with what the dict gives in its unknowns' places, is one of the others."""
+    return all([put_atom(given, atom) in others for atom in atoms])
+
+
 def is_likeness(q, r, thing):
     """Whether it is a likeness from q to r; of anything."""
-    unknowns = unknowns_of(q)
-    if not is_tuple_of(thing, len(unknowns)):
-        return False
-    if not all([is_pair_for(unknown, pair) for unknown, pair in zip(unknowns, thing)]):
-        return False
-    given = {pair[0]: pair[1] for pair in thing}
-    return put_terms(given, q[0]) == r[0] and all([put_atom(given, atom) in r[1] for atom in q[1]])
+    given = given_by(q, thing)
+    return given is not None and put_terms(given, q[0]) == r[0] and become_some_of(given, q[1], r[1])
 
 
 def fitted(given, terms, others):

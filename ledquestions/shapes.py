@@ -44,3 +44,13 @@ def other_way(turn):
 def is_rising(things):
     """Whether each is less than the next one, so none stands twice; of what can be compared."""
     return all([things[k] < things[k + 1] for k in range(len(things) - 1)])
+
+
+def is_same(thing, other):
+    """Whether a thing, which may be anything, is just this one, made of tuples, texts and whole numbers alone."""
+    # To Python True is 1, also deep within, so == alone would let truths by.
+    if isinstance(other, tuple):
+        return is_tuple_of(thing, len(other)) and all([is_same(part, same) for part, same in zip(thing, other)])
+    if is_whole(other):
+        return is_whole(thing) and thing == other
+    return isinstance(thing, str) and thing == other

@@ -7,6 +7,7 @@ import re
 import unittest
 import warnings
 
+DUNDERS = ("__init__", "__eq__", "__len__", "__str__")
 PACKAGE = pathlib.Path(__file__).resolve().parent.parent / "ledquestions"
 FILES = sorted(PACKAGE.glob("*.py"))
 CALLED = set(
@@ -54,6 +55,16 @@ def stored(tree):
             yield node.name
         elif isinstance(node, ast.alias):
             yield node.asname or node.name
+
+
+def methods(node):
+    return [part for part in node.body if isinstance(part, ast.FunctionDef)]
+
+
+def attributes(tree):
+    """All attributes that are given a value anywhere in a tree."""
+    found = [node for node in ast.walk(tree) if isinstance(node, ast.Attribute)]
+    return {node.attr for node in found if isinstance(node.ctx, ast.Store)}
 
 
 class Language(unittest.TestCase):
@@ -139,7 +150,7 @@ class Language(unittest.TestCase):
                 if isinstance(node, ast.ImportFrom):
                     taken |= {alias.asname or alias.name for alias in node.names}
             for name in stored(tree):
-                if name == "__init__":
+                if name in DUNDERS:
                     continue
                 self.assertFalse(name.startswith("_"), (path.name, name))
                 self.assertNotIn(name, NEVER, path.name)
@@ -150,12 +161,13 @@ class Language(unittest.TestCase):
                     self.assertFalse(inside & taken, (path.name, node.name, inside & taken))
 
     def test_builtins_and_methods(self):
+        own = {method.name for path, node in nodes(ast.ClassDef) for method in methods(node)}
         for path, tree in trees():
             for node in ast.walk(tree):
                 if isinstance(node, ast.Call) and isinstance(node.func, ast.Name) and hasattr(builtins, node.func.id):
                     self.assertIn(node.func.id, CALLED, path.name)
                 if isinstance(node, ast.Call) and isinstance(node.func, ast.Attribute):
-                    self.assertIn(node.func.attr, METHODS, path.name)
+                    self.assertIn(node.func.attr, METHODS | own, path.name)
 
     def test_is_with_none_true_and_false_alone(self):
         for path, node in nodes(ast.Compare):
@@ -174,6 +186,32 @@ class Language(unittest.TestCase):
                 made = isinstance(node, ast.Call) and isinstance(node.func, ast.Name) and node.func.id == "set"
                 if made or isinstance(node, (ast.Set, ast.SetComp)):
                     self.told(path, node, node in fine)
+
+    def test_no_name_is_a_method_here_and_an_attribute_there(self):
+        told = {method.name for path, node in nodes(ast.ClassDef) for method in methods(node)} - set(DUNDERS)
+        had = {name for path, tree in trees() for name in attributes(tree)}
+        self.assertFalse(told & had)
+        for kind in (str, int, list, dict, set, bytes, tuple):
+            self.assertFalse((told | had) & set(dir(kind)) - {"count", "index"}, kind)
+
+    def test_double_underscore_methods_assign_nothing_and_end_in_a_return(self):
+        for path, node in nodes(ast.ClassDef):
+            for method in methods(node):
+                if method.name in DUNDERS[1:]:
+                    last = method.body[-1]
+                    self.told(path, method, isinstance(last, ast.Return))
+                    self.told(path, method, not [x for x in ast.walk(method) if isinstance(x, (ast.Assign, ast.AugAssign))])
+                    if method.name != "__eq__":
+                        called = isinstance(last.value, ast.Call) and last.value.func.id
+                        self.told(path, method, called == {"__len__": "len", "__str__": "str"}[method.name])
+
+    def test_loops_change_nothing_that_they_go_over(self):
+        changing = ("append", "extend", "pop", "remove", "clear", "insert", "update", "setdefault")
+        for path, node in nodes(ast.For):
+            over = ast.unparse(node.iter)
+            for inner in ast.walk(node):
+                if isinstance(inner, ast.Call) and isinstance(inner.func, ast.Attribute) and inner.func.attr in changing:
+                    self.told(path, inner, ast.unparse(inner.func.value) != over)
 
     def test_errors_are_made_where_they_are_raised(self):
         for path, node in nodes(ast.Raise):
