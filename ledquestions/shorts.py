@@ -95,7 +95,6 @@ def written_out(shorts, question):
     plain = []
     # With each atom stand the names by which it came, so that a ring ends, too.
     waiting = [(atom, ()) for atom in question[1]]
-    look_size(plain, unknowns)
     while waiting:
         atom, names = waiting.pop(0)
         if atom[0] in names and is_told(told, atom):

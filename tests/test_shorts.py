@@ -287,6 +287,11 @@ class WrittenOut(unittest.TestCase):
         self.told(shorts, ((0,), (("b", 0), ("b", 0, 1))), ((0,), (("b", 0), ("r", 1, 0))))
         self.told((("a", ((0,), (("a", 0, 0),))),), ((0,), (("a", 0),)), ((0,), (("a", 0, 0),)))
 
+    def test_things_with_the_names_of_shorts(self):
+        shorts = (("a", ((0,), (("b", 0), ("r", 0, "a")))), ("b", ((1,), (("k", 1), ("k", "b")))))
+        self.told(shorts, ((), (("a", "b"),)), ((), (("k", "b"), ("r", "b", "a"))))
+        self.told(shorts, (("a",), (("b", "a"), ("a", "a"))), (("a",), (("k", "a"), ("k", "b"), ("r", "a", "a"))))
+
     def test_just_as_many_atoms_as_may_be(self):
         five = (("a", ((0,), tuple(("r", 0, "x" * k) for k in range(1, 6)))),)
         self.told(five, ((0,), (("a", 0),)), five[0][1])
