@@ -104,7 +104,7 @@ class Growing:
         """The number of the next question to lead on, None where there is none."""
         if not self.waiting:
             return None
-        least = min(self.waiting)
+        least = min(list(self.waiting))
         number = self.waiting[least].pop(0)
         if not self.waiting[least]:
             del self.waiting[least]
