@@ -6,6 +6,7 @@ from ledquestions.shapes import is_name, is_rising, is_sort, is_tuple_of, is_tur
 
 SORT_WORDS = ("within", "apart")
 TURN_WORDS = ("along", "away")
+NEVER_BOTH = ("apart", "away")
 
 
 def is_row(thing):
@@ -47,17 +48,18 @@ def look_rule(thing):
     return True
 
 
+def has_room(rules):
+    """Whether so many rules, with so many unlike turns as second sorts of within, may be."""
+    somes = [second for word, first, second in rules if word == "within" and is_turn(second)]
+    return len(rules) <= RULES and len(set(somes)) <= SOMES
+
+
 def look_rules(thing):
     """True of rules; else NoRules with the number of the first wrong one."""
     if not isinstance(thing, tuple) or len(thing) > RULES:
         raise NoRules(-1)
-    somes = {}
     for number, rule in enumerate(thing):
-        if not is_rule(rule) or rule in thing[:number]:
-            raise NoRules(number)
-        if rule[0] == "within" and is_turn(rule[2]):
-            somes[rule[2]] = True
-        if len(somes) > SOMES:
+        if not is_rule(rule) or rule in thing[:number] or not has_room(thing[:number + 1]):
             raise NoRules(number)
     return True
 

@@ -61,27 +61,31 @@ def are_named(given, head):
     return all([isinstance(given[term], str) for term in head if term in given])
 
 
-def part_answers(found, head, atoms):
-    """Dicts, none twice, of what the head's unknowns among these atoms become, names alone."""
+def part_matches(found, head, atoms):
+    """Dicts of what the unknowns of these atoms become, one for each way in which the head's become names."""
     givens = [{}]
     for place, atom in enumerate(atoms):
-        # What is asked for nowhere behind is let go, so that many matches become few.
+        # Matches that are the same for all that is asked for behind and for the head are as good as one.
         wanted = unknowns_in(atoms[place + 1:]) + list(head)
         more = {}
         for given in givens:
             for fit in grown(found, given, atom):
                 if are_named(fit, head):
-                    kept = [term for term in fit if term in wanted]
-                    more[tuple([(term, fit[term]) for term in kept])] = True
-        givens = [dict(pairs) for pairs in more]
+                    more.setdefault(tuple([fit.get(term) for term in wanted]), fit)
+        givens = list(more.values())
+    return givens
+
+
+def joined_matches(found, question):
+    """Dicts of what a question's unknowns become in lines, found by their keys, at least one for each named answer."""
+    head, atoms = question
+    givens = [{}]
+    for part in linked(atoms):
+        told = part_matches(found, head, part)
+        givens = [{**given, **other} for given in givens for other in told]
     return givens
 
 
 def joined_answers(found, question):
     """The answers of a question in lines, found by their keys, that have names alone in them; some perhaps twice."""
-    head, atoms = question
-    givens = [{}]
-    for part in linked(atoms):
-        told = part_answers(found, head, part)
-        givens = [{**given, **other} for given in givens for other in told]
-    return [put_terms(given, head) for given in givens]
+    return [put_terms(given, question[0]) for given in joined_matches(found, question)]

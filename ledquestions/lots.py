@@ -122,11 +122,21 @@ class Growing:
             raise TooMany("a least lot has too many questions")
 
 
-def lot(rules, question, *, most=LOT):
-    """A closed lot of the question; TooMany where a least one has more than most questions."""
+def grown_lot(rules, question, most):
+    """A closed lot of the question, grown; TooMany where a least one has more than most questions."""
     growing = Growing(rules, question, most)
     growing.grow()
-    return tuple(growing.triples)
+    return growing
+
+
+def lot(rules, question, *, most=LOT):
+    """A closed lot of the question; TooMany where a least one has more than most questions."""
+    return tuple(grown_lot(rules, question, most).triples)
+
+
+def led_questions(rules, question):
+    """Questions that ask of the rows alone what the question asks by the rules; TooMany above LOT."""
+    return shelved(grown_lot(rules, question, LOT).shelf)
 
 
 def least_lot(questions):

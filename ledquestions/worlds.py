@@ -1,11 +1,8 @@
 """Told worlds: whether a thing is one, whether rules are so in it, and what it answers."""
 
-from ledquestions.books import row_sorts
+from ledquestions.books import NEVER_BOTH, TURN_WORDS, row_sorts
 from ledquestions.joins import found_by, joined_answers
 from ledquestions.shapes import is_name, is_tuple_of, is_whole
-
-NEVER_BOTH = ("apart", "away")
-OF_PAIRS = ("along", "away")
 
 
 def is_standing(thing):
@@ -57,7 +54,7 @@ def breach(rules, lines):
     """None if all rules are so in a told world; else the number of the first that isn't, and terms by which."""
     singles, doubles = members(lines), pairs(lines)
     for number, rule in enumerate(rules):
-        wrong = wrong_by(rule, doubles if rule[0] in OF_PAIRS else singles)
+        wrong = wrong_by(rule, doubles if rule[0] in TURN_WORDS else singles)
         if wrong:
             return (number, wrong[0])
     return None
