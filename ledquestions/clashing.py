@@ -1,6 +1,6 @@
 """Clashes: which rows can't all be, and the papers that say why."""
 
-from ledquestions.books import NEVER_BOTH, is_row
+from ledquestions.books import NEVER_BOTH
 from ledquestions.errors import Clash
 from ledquestions.shapes import is_side, is_tuple_of
 from ledquestions.voids import is_void_paper, void_paper
@@ -20,7 +20,7 @@ def seen_by(word, row, side):
 
 def is_seat(rows, row, side):
     """Whether these are one of the rows and a side of it; of anything."""
-    return is_row(row) and row in rows and is_side(side) and side < len(row) - 1
+    return row in rows and is_side(side) and side < len(row) - 1
 
 
 def is_void_clash(book, thing):

@@ -5,7 +5,7 @@ for each standing question, led the questions to which the rules lead it and tol
 """
 
 from ledquestions.answering import with_row
-from ledquestions.books import are_rows, has_room, is_row, is_rule, look_row, look_rule
+from ledquestions.books import are_rows, has_room, is_rule, look_row, look_rule
 from ledquestions.bounds import ASKED
 from ledquestions.clashing import look_clash
 from ledquestions.errors import Missing, NoDeed, NoDeeds, NoName, NoQuestion, TooGreat, Twice
@@ -44,7 +44,7 @@ def put(state, row):
 def drop(state, row):
     """The state without a row."""
     rules, rows, standing = state
-    if not is_row(row) or row not in rows:
+    if row not in rows:
         raise Missing("no such row")
     fewer = tuple([other for other in rows if other != row])
     return (rules, fewer, told_anew(fewer, standing))
@@ -83,7 +83,7 @@ def forget(state, rule):
 
 def asked_as(state, name):
     """The entry that stands under the name, which may be anything; None where there's none."""
-    found = [entry for entry in state[2] if is_name(name) and entry[0] == name]
+    found = [entry for entry in state[2] if entry[0] == name]
     return found[0] if found else None
 
 
@@ -137,13 +137,13 @@ def look_deed(thing):
 
 
 def told_by(state):
-    """A dict of the names of a state's standing questions, each with a dict whose keys are its sure answers."""
+    """A dict of the names of a state's standing questions, each with a dict whose keys are its answers, rising."""
     return {name: {answer: True for answer in told} for name, question, led, told in state[2]}
 
 
 def less(ones, others):
-    """A rising tuple of the keys of one dict that are none of the other."""
-    return tuple(sorted([answer for answer in ones if answer not in others]))
+    """A tuple of the keys of one dict, in their order, that are none of the other."""
+    return tuple([answer for answer in ones if answer not in others])
 
 
 def changes(before, after):

@@ -11,8 +11,8 @@ class Folded:
     # So much is kept that a question with few unknowns can't go round where the tree wouldn't, nor see from one
     # thing up two ways at whose ends the tree would have two unlike things.
 
-    def __init__(self, rules, many):
-        self.growth = Growth(rules)
+    def __init__(self, growth, many):
+        self.growth = growth
         self.kept = max(1, (many + 1) // 2)
         self.rest = max(3, many + 1)
         self.found = {}
@@ -57,11 +57,15 @@ class Folded:
                 self.sprout(term, turn, turns, depth)
 
 
-def world(book, *, many=UNKNOWNS):
-    """A told world that keeps the book and has no more named answers to questions of so many unknowns; Clash."""
-    look_clash(book)
-    rules, rows = book
-    folded = Folded(rules, many)
+def folded_lines(growth, rows, many):
+    """The lines of a world with these rows that answers, of named things, no more than it must by so many unknowns."""
+    folded = Folded(growth, many)
     folded.plant(rows)
     folded.grow_up()
     return tuple(folded.found)
+
+
+def world(book, *, many=UNKNOWNS):
+    """A told world that keeps the book and has no more named answers to questions of so many unknowns; Clash."""
+    look_clash(book)
+    return folded_lines(Growth(book[0]), book[1], many)

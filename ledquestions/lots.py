@@ -4,6 +4,7 @@ from ledquestions.bounds import LOT
 from ledquestions.errors import TooMany
 from ledquestions.leading import all_led, led_or_none
 from ledquestions.likeness import least_form, put_atom, put_terms
+from ledquestions.needs import Needs
 from ledquestions.questions import unknowns_of
 from ledquestions.shapes import is_same, is_tuple_of, is_whole
 from ledquestions.shelves import Shelf, Tally
@@ -80,6 +81,8 @@ class Growing:
         self.rules = rules
         self.most = most
         self.tally = Tally(rules, question)
+        self.needs = Needs(rules, question)
+        self.look_at = most + 1
         self.shelf = Shelf()
         self.met = {}
         self.triples = []
@@ -110,6 +113,15 @@ class Growing:
             del self.waiting[least]
         return number
 
+    def look_needs(self):
+        """Refuse with TooMany where so many questions need some of their own that no more can help."""
+        # It is slow, so it waits until there are enough questions, and then until there are twice as many.
+        if len(self.shelf.stock) < self.look_at:
+            return
+        self.look_at = 2 * len(self.shelf.stock)
+        if self.needs.outnumber(self.most, [(number, self.triples[number][0]) for number in self.shelf.stock]):
+            raise TooMany("a least lot has too many questions")
+
     def grow(self):
         """Lead on until the lot is closed."""
         number = self.next_number()
@@ -117,6 +129,7 @@ class Growing:
             if number in self.shelf.stock:
                 for step, told in all_led(self.rules, self.triples[number][0]):
                     self.bring(told, number, step)
+                self.look_needs()
             number = self.next_number()
         if len(self.shelf.stock) > self.most:
             raise TooMany("a least lot has too many questions")

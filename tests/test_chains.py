@@ -92,6 +92,11 @@ class IsChain(unittest.TestCase):
             self.judged((rules, rows), ((0, 1), (("s", 0, 1),)), ("x", "y"), thing, False)
         rules = (("within", R, S),)
         self.judged((rules, rows), ((0, 1), (("s", 0, 1),)), ("x", "y"), thing, False)
+        thing = (((("a", "x"), ()), (("b", "x"), (0, 0))), ((0, "x"),))
+        self.judged(((("within", A, B),), (("a", "x"),)), ((0,), (("b", 0),)), ("x",), thing, True)
+        self.judged(((("apart", A, B),), (("a", "x"),)), ((0,), (("b", 0),)), ("x",), thing, False)
+        thing = (((("a", "x"), ()), (("r", "x", 0), (0, 0))), ((0, "x"), (1, 0)))
+        self.judged(((("apart", A, R),), (("a", "x"),)), ((0,), (("r", 0, 1),)), ("x",), thing, False)
 
     def test_one_thing_changed(self):
         counts = [0, 0]

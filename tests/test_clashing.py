@@ -80,6 +80,11 @@ class IsClash(unittest.TestCase):
         # The pair must be seen the same way round, not only have the same things.
         self.judged(((("away", R, S),), (("r", "x", "y"), ("s", "y", "x"))), ("away", 0, ("r", "x", "y"), 0, (), ("s", "y", "x"), 0, ()), False)
         self.judged(((("away", R, S),), (("r", "x", "y"), ("s", "x", "y"))), ("away", 0, ("r", "x", "y"), 0, (), ("s", "x", "y"), 0, ()), True)
+        # Rules of the other words let both be.
+        both = (("r", "x", "y"), ("s", "x", "y"))
+        for word, right in (("along", False), ("within", False), ("apart", False), ("away", True)):
+            self.judged((((word, R, S),), both), (word, 0, both[0], 0, (), both[1], 0, ()), right or word == "apart")
+            self.judged((((word, R, S),), both), ("away", 0, both[0], 0, (), both[1], 0, ()), right)
         # Rows of kinds have no pairs, and within leads no pairs.
         self.judged(((("away", R, R),), (("r", "x"),)), ("away", 0, ("r", "x"), 0, (), ("r", "x"), 0, ()), False)
         self.judged(((("away", R, S), ("within", R, S)), (("r", "x", "y"),)), ("away", 0, ("r", "x", "y"), 0, (), ("r", "x", "y"), 0, ((1, 0),)), False)

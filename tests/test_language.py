@@ -2,6 +2,7 @@
 
 import ast
 import builtins
+import functools
 import pathlib
 import re
 import unittest
@@ -34,6 +35,7 @@ BANNED = (
 )
 
 
+@functools.lru_cache(maxsize=None)
 def trees():
     return [(path, ast.parse(path.read_text())) for path in FILES]
 

@@ -8,6 +8,7 @@ from ledquestions.errors import TooMany
 from ledquestions.leading import led, steps
 from ledquestions.likeness import alike, least_form, lies_within
 from ledquestions.lots import least_lot, lot, right_lot, same_lots
+from ledquestions.needs import Needs
 from ledquestions.plain import plain_answers
 from ledquestions.questions import look_question
 from ledquestions.shelves import Shelf, Tally
@@ -261,6 +262,15 @@ class Lot(unittest.TestCase):
         ring = tuple(("within", (f"k{chr(97 + k)}",), (f"k{chr(97 + (k + 1) % 24)}",)) for k in range(24))
         self.assertEqual(len(least_lot(asked(lot(ring, ((0,), (("ka", 0),)))))), 24)
 
+    def test_very_many_without_a_head_end(self):
+        for many in (3, 8, 24):
+            rules = tuple(("along", (chr(97 + k) * 2, 0), ("r", k % 2)) for k in range(many))
+            for atoms in (
+                (("r", 0, 1), ("r", 1, 2), ("r", 2, 3), ("r", 3, 0)), (("r", 0, 1), ("r", 1, 2), ("r", 2, 3)),
+                (("r", 0, 1), ("r", 1, 0), ("r", 1, 2), ("r", 2, 0)),
+            ):
+                self.assertIs(type(refusal(lot, rules, ((), atoms))), TooMany)
+
     def test_partners(self):
         rules = (("within", ("a",), ("r", 0)), ("within", ("r", 1), ("a",)))
         path = ((0,), (("r", 0, 1), ("r", 1, 2), ("r", 2, 3), ("r", 3, 4)))
@@ -419,6 +429,25 @@ class Helpers(unittest.TestCase):
                 self.assertLessEqual(max(counts, default=0), many)
                 reached += max(counts, default=0) == many > 2
         self.assertGreater(reached, 40)
+
+    def test_those_that_need_some_of_their_own_are_never_more_than_a_least_lot_has(self):
+        reached = 0
+        for seed, (rules, question) in enumerate(PAIRS):
+            found = list(enumerate(asked(other_lot(rules, question, seed, 40) or ())))
+            many = len(tops([one for number, one in found]))
+            for again in range(3):
+                random.Random(again).shuffle(found)
+                self.assertIs(Needs(rules, question).outnumber(many, found), False)
+                reached += many > 2 and Needs(rules, question).outnumber(many - 1, found)
+        self.assertGreater(reached, 40)
+
+    def test_what_needs_all_its_atoms(self):
+        ring = ((), (("r", 0, 1), ("r", 1, 0)))
+        needs = Needs(SUB + (("within", ("a",), ("r", 0)),), ring)
+        self.assertTrue(needs.needs_all(ring))
+        needs = Needs((("along", ("r", 0), ("r", 1)),), ring)
+        self.assertFalse(needs.needs_all(ring))
+        self.assertTrue(needs.needs_all(((), (("r", 0, 1),))))
 
     def test_shut_means_shut(self):
         self.assertFalse(is_shut(SUB, [LOOSE]))

@@ -176,7 +176,8 @@ class IsTree(unittest.TestCase):
         self.assertIs(is_tree(ENDLESS, 2, (lines, ((1, "x", R), (0, 1, R)))), False)
         right = (("a", "x"), ("r", "x", 0), ("a", 0), ("r", 0, 1), ("a", 1))
         self.assertIs(is_tree(ENDLESS, 2, (right, ((0, "x", R), (1, 0, R)))), True)
-        self.assertIs(is_tree(ENDLESS, 2, (right, ((0, "x", R), (1, 0, R), (1, 0, R)))), False)
+        for more in ((1, 0, R), (2, 0, R), (2, 1, R), (2, "x", R), (2, "y", R), (2, "x", RB), (2, 2, R), (2, 3, R), None):
+            self.assertIs(is_tree(ENDLESS, 2, (right, ((0, "x", R), (1, 0, R), more))), False)
 
     def test_one_thing_changed(self):
         counts = [0, 0]
